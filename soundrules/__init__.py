@@ -1,0 +1,1 @@
+"""Soundrules: sounds of words, changed by rules laid in order."""
