@@ -24,6 +24,12 @@ ODD_THINGS = [
 ]
 
 
+def rule(way, changes, left=None, right=None):
+    """A rule by its changes as a text ("a>b e>", nothing for no sound) and its signs as texts."""
+    pairs = tuple(tuple(change.split(">")) for change in changes.split(" "))
+    return (way, pairs, left and tuple(left), right and tuple(right))
+
+
 def all_words(stock, most):
     sounds = [sound for sound, marks in stock]
     return ["".join(signs) for many in range(most + 1) for signs in product(sounds, repeat=many)]
@@ -161,3 +167,42 @@ def naive_standings(stock, order):
                 words[behind] = words[standing] + sound
                 fresh.append(behind)
     return words
+
+
+# Orders of four sounds at the limit of 600 standings.
+JUST_600 = [
+    ("left", (
+        ("once", (("a", ""),), ("#",), ("#", "a", "d", "e")),
+        ("along", (("", "e"),), ("a",), ("#",)),
+        ("once", (("b", ""), ("d", "e")), None, ("#",)),
+        ("along", (("a", "b"), ("b", "e"), ("e", "d")), ("#", "e"), ("#", "a", "b", "d")),
+    )),
+    ("right", (
+        ("once", (("b", ""),), ("b",), ("d",)),
+        ("along", (("a", "b"), ("b", "a"), ("e", "d")), ("#", "a", "b", "d", "e"), ("a", "d")),
+        ("once", (("a", ""), ("e", "")), ("e",), ("b",)),
+        ("once", (("e", "b"),), ("a", "b", "d"), ("#",)),
+    )),
+]
+
+# The first two have 601, the third one far more.
+OVER_600 = [
+    ("left", (
+        ("once", (("a", "b"), ("b", "d"), ("e", "a")), ("d",), ("#", "a", "b", "d", "e")),
+        ("once", (("d", "e"), ("e", "d")), ("#", "a", "e"), ("a", "b")),
+        ("along", (("a", "e"), ("b", "a"), ("d", "a"), ("e", "a")), ("#",), ("#", "b", "d")),
+        ("once", (("a", "e"), ("b", "e"), ("d", "b"), ("e", "a")), ("#", "a", "b", "d"), ("#", "a", "b", "e")),
+    )),
+    ("right", (
+        ("once", (("b", "e"), ("e", "a")), None, ("#", "b", "d", "e")),
+        ("once", (("a", "b"), ("b", ""), ("d", "b"), ("e", "b")), ("#",), ("a", "b", "d", "e")),
+        ("once", (("a", "d"), ("d", "e"), ("e", "a")), ("#", "b", "d", "e"), ("#", "a", "b", "d")),
+        ("once", (("a", "b"), ("b", "d"), ("d", "b"), ("e", "b")), ("#", "a", "b", "d"), ("d",)),
+    )),
+    ("right", (
+        ("once", (("a", "e"), ("b", "a"), ("e", "a")), ("a",), ("a", "b")),
+        ("once", (("a", "e"), ("b", "a"), ("d", "")), ("#", "a", "b", "d", "e"), ("a", "e")),
+        ("once", (("a", ""), ("b", "a"), ("d", "b"), ("e", "b")), ("#", "a", "b", "d", "e"), ("#", "d")),
+        ("along", (("a", "d"), ("e", "")), ("b",), ("b", "d")),
+    )),
+]
