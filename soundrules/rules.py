@@ -1,5 +1,6 @@
 """Rules and orders: what they are, which signs fit, rules turned about."""
 
+from soundrules.errors import NoSide
 from soundrules.stocks import EDGE, is_pair, rises, sounds_of
 
 WAYS = ("once", "along")
@@ -72,3 +73,9 @@ def turned(rule):
 def puts_in(rule):
     """Whether the rule is one that puts a sound in."""
     return rule[1][0][0] == ""
+
+
+def need_one_side(one, other):
+    """Refuses two orders that are not of one side."""
+    if one[0] != other[0]:
+        raise NoSide("the orders are not of one side")

@@ -47,33 +47,52 @@ def read_changing(rule, standing, sign):
 
 
 def read_signs(rule, standing, signs):
-    """How a rule reads signs one after another: its new standing, and all that it puts out."""
+    """How a rule reads signs one after another: its new standing, all that it puts out, and whether it acts by it."""
     puts = []
+    acting = False
     for sign in signs:
+        held = standing[1]
         if puts_in(rule):
             standing, put = read_putting_in(rule, standing, sign)
         else:
             standing, put = read_changing(rule, standing, sign)
+        # A rule that does nothing puts out what it held, neither more nor less.
+        acting = acting or put != held
         puts.append(put)
-    return standing, "".join(puts)
+    return standing, "".join(puts), acting
+
+
+def watch_on(order, standing, sound):
+    """The order's standing behind a sound, what is put out, and for each rule whether it acts by it."""
+    put = sound
+    behind = []
+    acting = []
+    for rule, own in zip(reading_rules(order), standing):
+        new, put, acts_here = read_signs(rule, own, put)
+        behind.append(new)
+        acting.append(acts_here)
+    return tuple(behind), put, tuple(acting)
+
+
+def watch_end(order, standing):
+    """What the order puts out at the end of the word, and for each rule whether it acts there."""
+    put = ""
+    acting = []
+    for rule, own in zip(reading_rules(order), standing):
+        new, put, acts_here = read_signs(rule, own, put + EDGE)
+        acting.append(acts_here)
+    return put, tuple(acting)
 
 
 def read_on(order, standing, sound):
     """The order's standing behind a sound, and what is put out."""
-    put = sound
-    behind = []
-    for rule, own in zip(reading_rules(order), standing):
-        new, put = read_signs(rule, own, put)
-        behind.append(new)
-    return tuple(behind), put
+    behind, put, acting = watch_on(order, standing, sound)
+    return behind, put
 
 
 def end_of(order, standing):
     """What the order puts out at the end of the word."""
-    put = ""
-    for rule, own in zip(reading_rules(order), standing):
-        put = read_signs(rule, own, put + EDGE)[1]
-    return put
+    return watch_end(order, standing)[0]
 
 
 def readings(stock, order):

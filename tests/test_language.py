@@ -76,10 +76,12 @@ class Language(unittest.TestCase):
     def test_names(self):
         for path in FILES:
             tree = ast.parse(path.read_text())
-            own = [node.name for node in ast.walk(tree) if isinstance(node, (ast.FunctionDef, ast.ClassDef))]
+            own = [node.name for node in tree.body if isinstance(node, (ast.FunctionDef, ast.ClassDef))]
             outside = [alias.name for node in ast.walk(tree) if isinstance(node, ast.ImportFrom) for alias in node.names]
             bound = [node.arg for node in ast.walk(tree) if isinstance(node, ast.arg)]
             bound += [node.id for node in ast.walk(tree) if isinstance(node, ast.Name) and isinstance(node.ctx, ast.Store)]
+            bound += [node.name for outer in tree.body if isinstance(outer, ast.FunctionDef) for node in ast.walk(outer)
+                      if isinstance(node, ast.FunctionDef) and node != outer]
             for node in bound:
                 self.assertNotIn(node, BUILTINS | set(outside) | set(own), path.name)
                 self.assertRegex(node, r"\A[A-Za-z][A-Za-z0-9_]*\Z", path.name)
