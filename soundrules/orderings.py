@@ -1,7 +1,7 @@
 """The same rules in other orders, and whether a rule acts where it stands."""
 
 from soundrules.errors import NoNumber
-from soundrules.kinds import is_whole
+from soundrules.things import is_whole
 from soundrules.machines import least_machine
 from soundrules.seeking import shortest_word
 from soundrules.standings import first_standing, standings, watch_end, watch_on

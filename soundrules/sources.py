@@ -2,7 +2,7 @@
 
 from soundrules.changing import made
 from soundrules.errors import NoNumber, NoSource
-from soundrules.kinds import is_whole
+from soundrules.things import is_whole
 from soundrules.machines import least_machine
 from soundrules.nets import counted, form_net, words_told
 from soundrules.numbering import number_in, word_at

@@ -1,6 +1,6 @@
 """What several tests share: stocks, words, things of any kind, many orders, and the document in naive words."""
 
-from itertools import product
+from itertools import permutations, product
 
 ONE = (("a", ()),)
 TWO = (("a", ("vowel",)), ("b", ()))
@@ -167,6 +167,202 @@ def naive_standings(stock, order):
                 words[behind] = words[standing] + sound
                 fresh.append(behind)
     return words
+
+
+def naive_acting(order, standing, text, ended):
+    """For each rule whether it changes, leaves out or puts in anything by reading the text (and the edge, if ended)."""
+    side, rules = order
+    acting = []
+    for (way, changes, left, right), own in zip(rules, standing):
+        rule = (way, changes, right, left) if side == "right" else (way, changes, left, right)
+        acts = False
+        out = ""
+        for sign in text + "#" if ended else text:
+            near, held = own
+            fit = near and naive_fits(rule[3], sign)
+            acts = acts or (fit and (changes[0][0] == "" or held in [a for a, b in changes]))
+            own, more = naive_read(rule, own, sign)
+            out = out + more
+        acting.append(acts)
+        text = out
+    return acting
+
+
+def naive_first(order):
+    side, rules = order
+    return tuple((naive_fits(rule[3] if side == "right" else rule[2], "#"), "") for rule in rules)
+
+
+def reached(stock, first, lead):
+    """All rows that are come to from the first one, rising; lead tells None where there is none behind a sound."""
+    known = {first}
+    fresh = [first]
+    while fresh:
+        row = fresh.pop()
+        for sound, marks in stock:
+            behind = lead(row, sound)
+            if behind is not None and behind not in known:
+                known.add(behind)
+                fresh.append(behind)
+    return tuple(sorted(known))
+
+
+def naive_machine(stock, order):
+    """A machine of the order that is not the least: a state for each standing, nothing put out early."""
+    numbers = {standing: number for number, standing in enumerate(naive_standings(stock, order))}
+    states = []
+    for standing in numbers:
+        steps = [naive_cascade(order, standing, sound, False) for sound, marks in stock]
+        states.append((naive_cascade(order, standing, "", True)[1],
+                       tuple((put, numbers[behind]) for behind, put in steps)))
+    return ("", tuple(states))
+
+
+def step_by(stock, machine, number, sound):
+    return dict(zip([own for own, marks in stock], machine[1][number][1]))[sound]
+
+
+def rest_of(one, other):
+    """What each text has beyond the other one; ("?", "?") where neither is a beginning of the other."""
+    if any(sign != second for sign, second in zip(one, other)):
+        return "?", "?"
+    return one[len(other):], other[len(one):]
+
+
+def naive_table(stock, order, machine):
+    """The paper of "machine": all rows that readings lead to."""
+    def lead(row, sound):
+        behind, put = naive_cascade(order, row[0], sound, False)
+        own, to = step_by(stock, machine, row[1], sound)
+        return (behind, to) + rest_of(row[2] + put, row[3] + own)
+    return reached(stock, (naive_first(order), 0, "", machine[0]), lead)
+
+
+def naive_form_rows(stock, side, machine, form):
+    """The rows of "no source", and whether one of them ends with the form."""
+    goal = form[::-1] if side == "right" else form
+
+    def lead(row, sound):
+        put, to = step_by(stock, machine, row[0], sound)
+        return (to, row[1] + len(put)) if goal[:row[1]] + put == goal[:row[1] + len(put)] else None
+    if goal[:len(machine[0])] != machine[0]:
+        return (), False
+    rows = reached(stock, (0, len(machine[0])), lead)
+    return rows, any(goal[:many] + machine[1][number][0] == goal for number, many in rows)
+
+
+def naive_common_rows(stock, side, machines, forms):
+    """The rows of "no common", and whether one of them ends with both forms."""
+    one, other = machines
+    form, second = [form[::-1] if side == "right" else form for form in forms]
+
+    def lead(row, sound):
+        put, to = step_by(stock, one, row[0], sound)
+        second_put, second_to = step_by(stock, other, row[1], sound)
+        if form[row[2]:row[2] + len(put)] != put or second[row[3]:row[3] + len(second_put)] != second_put:
+            return None
+        return (to, second_to, row[2] + len(put), row[3] + len(second_put))
+    if form[:len(one[0])] != one[0] or second[:len(other[0])] != other[0]:
+        return (), False
+    rows = reached(stock, (0, 0, len(one[0]), len(other[0])), lead)
+    return rows, any(form[row[2]:] == one[1][row[0]][0] and second[row[3]:] == other[1][row[1]][0] for row in rows)
+
+
+def naive_two_rows(stock, side, one, other):
+    """The rows of "no way" and "no taking", and all (behind, alone) with which words end."""
+    both, itself = (side, (one, other)), (side, (other,))
+
+    def lead(row, sound):
+        return (naive_cascade(both, row[0], sound, False)[0], naive_cascade(itself, row[1], sound, False)[0],
+                row[2] or naive_acting(both, row[0], sound, False)[1],
+                row[3] or naive_acting(itself, row[1], sound, False)[0])
+    rows = reached(stock, (naive_first(both), naive_first(itself), False, False), lead)
+    ends = {(row[2] or naive_acting(both, row[0], "", True)[1], row[3] or naive_acting(itself, row[1], "", True)[0])
+            for row in rows}
+    return rows, ends
+
+
+def naive_rings(stock, side, machine, most):
+    """All (ahead, ring, behind) of words of so many sounds where the ring leads back and puts out nothing."""
+    words = all_words(stock, most)
+    told = []
+    for ahead, ring, behind in product(words, words[1:], words):
+        read, turn = (behind[::-1], ring[::-1]) if side == "right" else (ahead, ring)
+        state = 0
+        for sound in read:
+            state = step_by(stock, machine, state, sound)[1]
+        at, puts = state, ""
+        for sound in turn:
+            put, at = step_by(stock, machine, at, sound)
+            puts = puts + put
+        if at == state and puts == "":
+            told.append((ahead, ring, behind))
+    return told
+
+
+def naive_quarrel_paper(order, book):
+    """The paper of "quarrel", None where some ordering tells the book."""
+    side, rules = order
+    numbers = []
+    for row in permutations(rules):
+        wrong = [at for at, (word, form) in enumerate(book) if naive_made((side, row), word) != form]
+        numbers.append(wrong[0] if wrong else None)
+    return None if None in numbers else tuple(numbers)
+
+
+def naive_word_papers(stock, one, other, words):
+    """All that is true of these words by two orders of one side, of the kinds that show something by a word."""
+    told = []
+    for word in words:
+        walk = naive_walk(one, word)
+        told.append((("makes", stock, one, word, walk[-1]), walk))
+        if walk[-1] != naive_made(other, word):
+            told.append((("parted", stock, one, other, word), None))
+        for number in range(len(one[1])):
+            if walk[number] != walk[number + 1]:
+                told.append((("acts", stock, one, number, word), None))
+        for first, second in product(one[1], other[1]):
+            between = naive_made((one[0], (first,)), word)
+            behind = naive_made((one[0], (second,)), between) != between
+            alone = naive_made((one[0], (second,)), word) != word
+            if behind != alone:
+                told.append((("makes way" if behind else "takes", stock, one[0], first, second, word), None))
+    return told
+
+
+def naive_table_papers(stock, one, other, words):
+    """All that is true by two orders of one side, of the kinds that are shown by tables, of forms among these words."""
+    side = one[0]
+    machine, second = naive_machine(stock, one), naive_machine(stock, other)
+    table, second_table = naive_table(stock, one, machine), naive_table(stock, other, second)
+    told = [(("machine", stock, one, machine), table)]
+    found = naive_standings(stock, one)
+    for number in range(len(one[1])):
+        if not any(naive_acting(one, standing, sound, sound == "")[number]
+                   for standing in found for sound in [sound for sound, marks in stock] + [""]):
+            told.append((("never", stock, one, number), tuple(sorted(found))))
+    for rule, last in product(one[1], other[1]):
+        rows, ends = naive_two_rows(stock, side, rule, last)
+        if (True, False) not in ends:
+            told.append((("no way", stock, side, rule, last), rows))
+        if (False, True) not in ends:
+            told.append((("no taking", stock, side, rule, last), rows))
+    for form in words:
+        rows, ended = naive_form_rows(stock, side, machine, form)
+        if not ended:
+            told.append((("no source", stock, one, form), (machine, table, rows)))
+    for form, last in product(words, words):
+        rows, ended = naive_common_rows(stock, side, (machine, second), (form, last))
+        if not ended:
+            told.append((("no common", stock, one, other, form, last), (machine, table, second, second_table, rows)))
+    for ahead, ring, behind in naive_rings(stock, side, machine, 1):
+        form = naive_made(one, ahead + behind)
+        told.append((("endless", stock, one, form, ahead, ring, behind), (machine, table)))
+    for book in product(product(words, words), repeat=2):
+        paper = naive_quarrel_paper(one, book)
+        if paper is not None:
+            told.append((("quarrel", stock, one, book), paper))
+    return told
 
 
 # Orders of four sounds at the limit of 600 standings.
