@@ -14,7 +14,9 @@ BUILTINS = set("""len range enumerate zip min max sum abs sorted reversed int st
 METHODS = set("""append clear copy count endswith extend find get index insert isalnum isalpha isdigit islower isspace
     isupper items join keys ljust lower lstrip partition pop remove replace reverse rfind rjust rpartition rsplit rstrip
     setdefault split splitlines startswith strip update upper values zfill bit_length add discard""".split())
-FIELDS = {"part", "row", "name"}
+# Of the package's own classes: a name is never both.
+FIELDS = {"part", "row", "name", "stock", "kept", "last"}
+OWN_METHODS = {"say", "keep", "thing_by", "judge"}
 BARRED_WORDS = re.compile(
     r"\b(type|typing|typing_extensions|enum|Enum|IntEnum|StrEnum|Flag|IntFlag|Generic|Protocol|ABC|ABCMeta|namedtuple"
     r"|NamedTuple|TypedDict|TYPE_CHECKING|abstractmethod)\b|dataclass|overload|contextmanager")
@@ -63,6 +65,22 @@ class Language(unittest.TestCase):
                 if isinstance(sign, (ast.Is, ast.IsNot)):
                     self.assertTrue(isinstance(right, ast.Constant) and right.value in (None, True, False), name)
 
+    def test_iterated_at_once(self):
+        for name, node in self.each((ast.Assign, ast.Return)):
+            value = node.value
+            if isinstance(value, ast.Call):
+                called = value.func.id if isinstance(value.func, ast.Name) else getattr(value.func, "attr", None)
+                self.assertNotIn(called, ("range", "zip", "enumerate", "reversed", "items", "keys", "values"), (name, node.lineno))
+            self.assertNotIsInstance(value, (ast.Set, ast.SetComp), (name, node.lineno))
+
+    def test_imports_do_not_go_round(self):
+        above = {path.stem: {node.module.split(".")[1] for node in ast.walk(ast.parse(path.read_text()))
+                             if isinstance(node, ast.ImportFrom)} for path in FILES}
+        while above:
+            free = [name for name, others in above.items() if not others & set(above)]
+            self.assertNotEqual(free, [], above)
+            above = {name: others for name, others in above.items() if name not in free}
+
     def test_imports(self):
         for name, node in self.each(ast.ImportFrom):
             self.assertEqual(node.level, 0, name)
@@ -72,6 +90,15 @@ class Language(unittest.TestCase):
                        if isinstance(each, (ast.FunctionDef, ast.ClassDef, ast.Assign))]
             for alias in node.names:
                 self.assertIn(alias.name, defined, name)
+
+    def test_fields_and_methods(self):
+        fields = {node.attr for name, node in self.each(ast.Attribute) if isinstance(node.ctx, ast.Store)}
+        methods = {node.name for name, each in self.each(ast.ClassDef) for node in each.body
+                   if isinstance(node, ast.FunctionDef)}
+        self.assertEqual(fields, FIELDS)
+        self.assertEqual(methods - {"__init__"}, OWN_METHODS)
+        self.assertEqual(fields & methods, set())
+        self.assertEqual((fields | OWN_METHODS) & METHODS, set())
 
     def test_names(self):
         for path in FILES:
@@ -89,7 +116,7 @@ class Language(unittest.TestCase):
                 if isinstance(node, ast.Name) and isinstance(node.ctx, ast.Load):
                     self.assertIn(node.id, BUILTINS | set(own) | set(outside) | set(bound), path.name)
                 if isinstance(node, ast.Attribute):
-                    self.assertIn(node.attr, METHODS | FIELDS, path.name)
+                    self.assertIn(node.attr, METHODS | FIELDS | OWN_METHODS, path.name)
 
 
 if __name__ == "__main__":
